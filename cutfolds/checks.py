@@ -1,6 +1,6 @@
 """The checks of arguments that several files share."""
 
-from cutfolds.errors import InvalidNumber, InvalidRing, InvalidTail, InvalidTree, UnequalLeaves
+from cutfolds.errors import InvalidMarks, InvalidNumber, InvalidRing, InvalidTail, InvalidTree, UnequalLeaves
 
 MOST_LEAVES = 40
 MOST_TAIL = 40
@@ -55,3 +55,17 @@ def check_two_trees(tree, other):
     check_tree(other)
     if len(tree) != len(other):
         raise UnequalLeaves(len(tree), len(other))
+
+
+def check_marks(marks, tail, ring):
+    """Raise InvalidTail, InvalidRing or InvalidMarks if these are not marks by a tail and a ring.
+
+    How great a mark may be hangs on the tail and the ring, so these come first.
+    """
+    check_tail(tail)
+    check_ring(ring)
+    if not isinstance(marks, list) or not 1 <= len(marks) <= MOST_LEAVES:
+        raise InvalidMarks(None)
+    for index, mark in enumerate(marks):
+        if not is_whole_within(mark, 0, tail + ring - 1):
+            raise InvalidMarks(index)

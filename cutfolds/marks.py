@@ -14,6 +14,12 @@ def mark(depth, tail, ring):
     return _mark_of(depth, tail, ring)
 
 
+def next_mark(given, tail, ring):
+    """The mark next to a mark."""
+    # A mark is the least of the left depths that have it.
+    return mark(given + 1, tail, ring)
+
+
 def marks_of(tree, tail, ring):
     """The list of the marks of the leaves of a tree."""
     check_tree(tree)

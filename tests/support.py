@@ -1,5 +1,7 @@
-"""What several tests use: trees as nested pairs, wrong things, errors, limits of time."""
+"""What several tests use: trees as nested pairs, rows of marks, wrong things, errors, limits of time."""
 
+import itertools
+import math
 import random
 import signal
 import time
@@ -104,7 +106,122 @@ def marks_by_walking(most, tail, ring):
     return marks
 
 
+# ---- rows of marks, gone through by the words of [10], [11] and [15]
+
+
+def marks_of_depths(tree, tail, ring):
+    walked = marks_by_walking(len(tree), tail, ring)
+    return [walked[depth] for depth in tree]
+
+
+def next_marks(tail, ring):
+    """A dict with the mark next to each mark."""
+    return dict(itertools.pairwise(marks_by_walking(tail + ring, tail, ring)))
+
+
+def all_rows(size, tail, ring):
+    """All rows of so many marks, those that cannot be finished too."""
+    return [list(row) for row in itertools.product(range(tail + ring), repeat=size)]
+
+
+def trees_by_marks(leaves, tail, ring):
+    """A dict from each row of marks of trees with so many leaves, as a tuple, to the ascending list of these."""
+    found = {}
+    for tree in sorted(depths_of(shape) for shape in shapes(leaves)):
+        found.setdefault(tuple(marks_of_depths(tree, tail, ring)), []).append(tree)
+    return found
+
+
+def places_by_rule(row, following):
+    return [place for place in range(1, len(row)) if row[place - 1] == following[row[place]]]
+
+
+def row_behind(row, *places):
+    """The row behind joinings at places without a common part: the mark of the right one stays."""
+    return [mark for place, mark in enumerate(row, 1) if place not in places]
+
+
+def orders_by_trying(row, following, known):
+    """In how many orders joinings lead to the one mark 0; `known` keeps what was counted before."""
+    key = tuple(row)
+    if key not in known:
+        if len(row) == 1:
+            known[key] = int(row == [0])
+        else:
+            behind = [row_behind(row, place) for place in places_by_rule(row, following)]
+            known[key] = sum(orders_by_trying(other, following, known) for other in behind)
+    return known[key]
+
+
+def stretches(row, following, one_way):
+    """The counts of [15] of a whole row; `one_way` tells how often a product is taken."""
+    known = {}
+    for size in range(len(row)):
+        for start in range(len(row) - size):
+            end = start + size
+            known[start, end] = int(size == 0) + sum(
+                known[start, middle] * known[middle + 1, end] * one_way(size - 1, middle - start)
+                for middle in range(start, end) if row[middle] == following[row[end]]
+            )
+    return known[0, len(row) - 1] if row[-1] == 0 else 0
+
+
+def alike_by_stretches(row, tail, ring):
+    return stretches(row, next_marks(tail, ring), lambda _, __: 1)
+
+
+def orders_by_stretches(row, tail, ring):
+    return stretches(row, next_marks(tail, ring), math.comb)
+
+
+def is_tree(depths):
+    """Whether a list tells a tree, by the words of [6]."""
+    return depths[-1] == 0 and min(depths[:-1] + [1]) >= 1 and all(
+        one <= two + 1 for one, two in itertools.pairwise(depths)
+    )
+
+
+def tree_behind(tree, tail, ring, leaf, up):
+    """What a step of [14] leads to; None if this is no step."""
+    depth = tree[leaf - 1]
+    other = depth + ring if up else depth - ring
+    behind = tree[:leaf - 1] + [other] + tree[leaf:]
+    if not is_tree(behind):
+        return None
+    walked = marks_by_walking(max(depth, other), tail, ring)
+    return behind if walked[depth] == walked[other] else None
+
+
+def steps_of(tree, tail, ring):
+    """The steps of [14], each with the tree behind it."""
+    tried = {
+        (leaf, up): tree_behind(tree, tail, ring, leaf, up)
+        for leaf in range(1, len(tree) + 1) for up in (False, True)
+    }
+    return {step: behind for step, behind in tried.items() if behind}
+
+
+def last_of_steps(tree, tail, ring, up):
+    """The tree to which steps in one direction lead at last."""
+    found, before = list(tree), None
+    while found != before:
+        before = found
+        for leaf in range(1, len(tree) + 1):
+            found = tree_behind(found, tail, ring, leaf, up) or found
+    return found
+
+
 # ---- wrong things
+
+
+def with_one_wrong(right, things):
+    """Copies of a list with one wrong thing at each place, also with wrong things behind it; and the index."""
+    found = []
+    for at in range(len(right)):
+        for thing in things:
+            wrong = right[:at] + [thing] + right[at + 1:]
+            found += [(wrong, at), (wrong[:at + 1] + [None] * (len(right) - 1 - at), at)]
+    return found
 
 
 class Unlike:
@@ -142,6 +259,27 @@ def no_lists():
         {0: 1, 1: 0}, {0}, frozenset([0]), range(1), range(2, -1, -1), iter([0]), bytearray(b"0"),
         object(), Unlike(), list, len,
     ]
+
+
+def wrong_trees():
+    """Pairs of what is not a tree, and the index that InvalidTree tells."""
+    found = [(thing, None) for thing in no_lists()]
+    found += [([], None), ([1] * 40 + [0], None), ([None] * 41, None), (list(range(40, -1, -1)), None)]
+    found += [([0] * 1000, None)]
+    for right in ([0], [1, 0], [2, 1, 0], [2, 1, 2, 1, 0], [1, 2, 3, 2, 1, 1, 0], list(range(39, -1, -1))):
+        last = len(right) - 1
+        for at in range(len(right)):
+            things = no_numbers() + [-1, -10 ** 24] + ([0] if at < last else [])
+            for thing in things:
+                wrong = right[:at] + [thing] + right[at + 1:]
+                found += [(wrong, at), (wrong[:at + 1] + [None] * (last - at), at)]
+        for at in range(1, len(right)):
+            # Here the thing before is too great, and the one at this place is the wrong one.
+            wrong = right[:at - 1] + [right[at] + 2] + right[at:]
+            found += [(wrong, at), (wrong[:at + 1] + ["1"] * (last - at), at)]
+        for number in (1, 2, 40, 10 ** 24):
+            found += [(right[:-1] + [number], last)]
+    return found
 
 
 # ---- errors

@@ -1,16 +1,24 @@
-"""[2] and the first paragraphs of the interface, for every function of trees, operations and marks."""
+"""[2] and the first paragraphs of the interface, for every function; the methods have their own tests."""
 
 import copy
 import unittest
 
 from cutfolds import errors
+from cutfolds.counts import (
+    classes, count_alike, count_classes, count_orders, count_trees, numbered_tree, tree_number,
+)
+from cutfolds.joinings import (
+    are_safe_at_once, can_finish, greatest_tree, joined, joinings, least_tree, safe_joinings,
+)
 from cutfolds.marks import are_alike, fold_marks, mark, marks_of, parting_leaf, parting_size
 from cutfolds.operations import cycle_of_factor, cycle_of_letters, fold_numbers, fold_texts, fold_with, weights
+from cutfolds.pieces import count_cuttings, cut_tree, even_cutting, is_safe
 from cutfolds.trees import all_trees, height, left_fold, mirrored, parts, put_together
 from tests import support
 from tests.support import Promises
 
 TREE = [2, 1, 2, 1, 0]
+ROW = [0, 1, 0, 1, 0]
 LETTERS = {"a": "b", "b": "c", "c": "b"}
 
 
@@ -51,28 +59,33 @@ CALLS = [
     (are_alike, {"tree": TREE, "other": [4, 3, 2, 1, 0], "tail": 0, "ring": 2}),
     (parting_leaf, {"tree": TREE, "other": [4, 3, 2, 1, 0], "tail": 0, "ring": 3}),
     (parting_size, {"tail": 0, "ring": 2, "other_tail": 3, "other_ring": 4}),
+    (can_finish, {"marks": ROW, "tail": 0, "ring": 2}),
+    (can_finish, {"marks": [0], "tail": 0, "ring": 1}),
+    (joinings, {"marks": ROW, "tail": 0, "ring": 2}),
+    (joinings, {"marks": [4, 0], "tail": 3, "ring": 2}),
+    (safe_joinings, {"marks": ROW, "tail": 0, "ring": 2}),
+    (joined, {"marks": ROW, "tail": 0, "ring": 2, "place": 4}),
+    (are_safe_at_once, {"marks": ROW, "tail": 0, "ring": 2, "places": [1, 3]}),
+    (are_safe_at_once, {"marks": ROW, "tail": 0, "ring": 2, "places": []}),
+    (least_tree, {"marks": ROW, "tail": 0, "ring": 2}),
+    (greatest_tree, {"marks": ROW, "tail": 0, "ring": 2}),
+    (greatest_tree, {"marks": [0], "tail": 40, "ring": 10000}),
+    (count_trees, {"number": 5}),
+    (count_alike, {"marks": ROW, "tail": 0, "ring": 2}),
+    (count_orders, {"marks": ROW, "tail": 0, "ring": 2}),
+    (count_classes, {"number": 5, "tail": 0, "ring": 2}),
+    (classes, {"number": 4, "tail": 0, "ring": 2}),
+    (classes, {"number": 1, "tail": 0, "ring": 1}),
+    (tree_number, {"tree": [2, 3, 2, 1, 0], "tail": 0, "ring": 2}),
+    (numbered_tree, {"marks": ROW, "tail": 0, "ring": 2, "number": 2}),
+    (numbered_tree, {"marks": [0], "tail": 0, "ring": 2, "number": 0}),
+    (cut_tree, {"sizes": [2, 3, 1]}),
+    (cut_tree, {"sizes": [1]}),
+    (is_safe, {"sizes": [2, 3, 1], "tail": 0, "ring": 2}),
+    (even_cutting, {"number": 10, "pieces": 3, "tail": 0, "ring": 2}),
+    (even_cutting, {"number": 1, "pieces": 1, "tail": 0, "ring": 2}),
+    (count_cuttings, {"number": 10, "pieces": 3, "tail": 0, "ring": 2}),
 ]
-
-
-def wrong_trees():
-    """Pairs of what is not a tree, and the index that InvalidTree tells."""
-    found = [(thing, None) for thing in support.no_lists()]
-    found += [([], None), ([1] * 40 + [0], None), ([None] * 41, None), (list(range(40, -1, -1)), None)]
-    found += [([0] * 1000, None)]
-    for right in ([0], [1, 0], [2, 1, 0], TREE, [1, 2, 3, 2, 1, 1, 0], list(range(39, -1, -1))):
-        last = len(right) - 1
-        for at in range(len(right)):
-            things = support.no_numbers() + [-1, -10 ** 24] + ([0] if at < last else [])
-            for thing in things:
-                wrong = right[:at] + [thing] + right[at + 1:]
-                found += [(wrong, at), (wrong[:at + 1] + [None] * (last - at), at)]
-        for at in range(1, len(right)):
-            # Here the thing before is too great, and the one at this place is the wrong one.
-            wrong = right[:at - 1] + [right[at] + 2] + right[at:]
-            found += [(wrong, at), (wrong[:at + 1] + ["1"] * (last - at), at)]
-        for number in (1, 2, 40, 10 ** 24):
-            found += [(right[:-1] + [number], last)]
-    return found
 
 
 WRONG_TREES = [
@@ -122,22 +135,67 @@ def wrong_values(things):
     return [(thing, errors.InvalidValues, {"index": index}) for thing, index in pairs + things]
 
 
-WRONG_VALUES = {
-    fold_numbers: wrong_values([([1, 2, 3, True, "5"], 3), ([None, 2, 3, 4, 5], 0), ([1, 2, 3, 4, 5.0], 4)]),
-    fold_texts: wrong_values([(["a", "", "d", "b", 5], 2), ([None, "", "", "", ""], 0), (["a"] * 4 + ["abA"], 4)]),
-    fold_with: wrong_values([]),
+WRONG_MARKS = [
+    (thing, errors.InvalidMarks, {"index": index})
+    for thing, index in (
+        (None, None), ([], None), ((0,), None), (True, None), ("0", None), ([0] * 41, None), ([None] * 41, None),
+        ([True], 0), ([-1, None], 0), ([0, 10 ** 24, False], 1), ([0, 0, 0.0], 2), ([0, 0, 0, [0], "0"], 3),
+    )
+]
+WRONG_PLACES = [
+    (thing, errors.NoJoining, {"place": thing})
+    for thing in (0, -1, 5, 6, 10 ** 24, True, False, None, "1", 1.0, [1], (1,), object(), support.Unlike())
+]
+WRONG_LISTS_OF_PLACES = [
+    (thing, errors.InvalidPlaces, {"index": index})
+    for thing, index in (
+        (None, None), (1, None), ((1, 3), None), (True, None), ("13", None), ({1: 3}, None), ([True], 0),
+        ([0, None], 0), ([1, 2, 0], 1), ([3, 1, True], 1), ([2, 2], 1), ([1, 3, 5], 2), ([1, 3.0], 1), ([[1]], 0),
+    )
+]
+WRONG_SIZES = [
+    (thing, errors.InvalidSizes, {"index": index})
+    for thing, index in (
+        (None, None), ([], None), ((1,), None), (True, None), ("1", None), (3, None), ([True], 0), ([41], 0),
+        ([1, 0, None], 1), ([1, -1, True], 1), ([40, 1, 0], 1), ([10, 30, "1"], 2), ([1] * 41, 40), ([2, 3, 1.0], 2),
+    )
+]
+WRONG_PIECES = [
+    (thing, errors.InvalidNumber, {"number": thing})
+    for thing in (0, -1, 11, 40, 10 ** 24, True, False, None, "1", 1.0, [1], object(), support.Unlike())
+]
+WRONG_HERE = {
+    (fold_numbers, "values"): wrong_values(
+        [([1, 2, 3, True, "5"], 3), ([None, 2, 3, 4, 5], 0), ([1, 2, 3, 4, 5.0], 4)]
+    ),
+    (fold_texts, "values"): wrong_values(
+        [(["a", "", "d", "b", 5], 2), ([None, "", "", "", ""], 0), (["a"] * 4 + ["abA"], 4)]
+    ),
+    (fold_with, "values"): wrong_values([]),
+    (numbered_tree, "number"): [
+        (thing, errors.InvalidNumber, {"number": thing})
+        for thing in (-1, 3, 4, 10 ** 24, True, False, None, "1", 1.0, [1], object(), support.Unlike())
+    ],
 }
 WRONG = {
     "tree": WRONG_TREES, "other": WRONG_TREES, "left": WRONG_TREES, "right": WRONG_TREES,
     "number": WRONG_NUMBERS, "depth": WRONG_DEPTHS,
     "tail": WRONG_TAILS, "other_tail": WRONG_TAILS, "ring": WRONG_RINGS, "other_ring": WRONG_RINGS,
     "factor": WRONG_FACTORS, "modulus": WRONG_MODULI, "letters": WRONG_LETTERS,
+    "marks": WRONG_MARKS, "place": WRONG_PLACES, "places": WRONG_LISTS_OF_PLACES,
+    "sizes": WRONG_SIZES, "pieces": WRONG_PIECES,
     "turn": [], "join": [],
 }
 
 
 def wrong_ones(function, name):
-    return WRONG_VALUES[function] if name == "values" else WRONG[name]
+    return WRONG_HERE.get((function, name)) or WRONG[name]
+
+
+def as_checked(named):
+    """The names of arguments in the order in which they are checked: tail and ring ahead of marks."""
+    first = [name for name in named if name in ("tail", "ring") and "marks" in named]
+    return first + [name for name in named if name not in first + ["turn", "join"]]
 
 
 def lists_in(thing):
@@ -251,7 +309,7 @@ class WrongCalls(Promises):
 
     def test_two_wrong_arguments_at_once(self):
         for function, named in CALLS:
-            names = [name for name in named if name not in ("turn", "join")]
+            names = as_checked(named)
             for at, name in enumerate(names):
                 for later in names[at + 1:]:
                     for thing, kind, fields in wrong_ones(function, name):
@@ -263,13 +321,13 @@ class WrongCalls(Promises):
     def test_all_arguments_wrong_at_once(self):
         for function, named in CALLS:
             given = {name: None for name in named}
-            name = next(iter(named))
+            name = as_checked(named)[0]
             for thing, kind, fields in wrong_ones(function, name):
                 with self.subTest(function.__name__):
                     self.assert_error(kind, fields, function, **{**given, name: thing})
 
     def test_every_wrong_tree_in_every_place_for_trees(self):
-        wrong = wrong_trees()
+        wrong = support.wrong_trees()
         for function, named in CALLS:
             for name in named:
                 if name in ("tree", "other", "left", "right"):
@@ -277,6 +335,17 @@ class WrongCalls(Promises):
                         given = {**named, name: thing}
                         with self.subTest(function.__name__, name=name):
                             self.assert_error(errors.InvalidTree, {"index": index}, function, **given)
+
+    def test_every_wrong_row_of_marks(self):
+        wrong = [(thing, None) for thing in support.no_lists() + [[], [0] * 41, [None] * 41, [0] * 1000]]
+        for tail, ring, right in ((0, 2, ROW), (0, 1, [0]), (0, 1, [0] * 40), (3, 2, [4, 3, 2, 1, 0])):
+            things = support.no_numbers() + [-1, -2, tail + ring, tail + ring + 1, 10 ** 24]
+            for thing, index in wrong + support.with_one_wrong(right, things):
+                for function, named in CALLS:
+                    if "marks" in named:
+                        given = {**named, "marks": thing, "tail": tail, "ring": ring}
+                        with self.subTest(function.__name__):
+                            self.assert_error(errors.InvalidMarks, {"index": index}, function, **given)
 
     def test_unequal_leaves(self):
         for function in (are_alike, parting_leaf):

@@ -1,17 +1,30 @@
 """[3]: each call within the bounds ends well within ten seconds."""
 
+import itertools
+import math
 import random
 import unittest
 
-from cutfolds.errors import InvalidTree, InvalidValues
+from cutfolds.counts import (
+    classes, count_alike, count_classes, count_orders, count_trees, numbered_tree, tree_number,
+)
+from cutfolds.errors import InvalidMarks, InvalidNumber, InvalidPlaces, InvalidSizes, InvalidTree, InvalidValues
+from cutfolds.joinings import (
+    are_safe_at_once, can_finish, greatest_tree, joined, joinings, least_tree, safe_joinings,
+)
+from cutfolds.lattices import Shape
 from cutfolds.marks import are_alike, fold_marks, mark, marks_of, parting_leaf, parting_size
 from cutfolds.operations import cycle_of_factor, cycle_of_letters, fold_numbers, fold_texts, fold_with, weights
+from cutfolds.pieces import count_cuttings, cut_tree, even_cutting, is_safe
 from cutfolds.trees import all_trees, height, left_fold, mirrored, parts, put_together
 from tests import support
 from tests.support import Promises, depths_of, ends_soon
 
 MANY = 10 ** 25 - 1
 ALPHABET = "abcdefghijklmnopqrstuvwxyz"
+COMB, FOLD = [1] * 39 + [0], list(range(39, -1, -1))
+# The least and the greatest tails and rings, and the two least rings.
+PAIRS = list(itertools.product((0, 1, 40), (1, 2, 3, 10000)))
 NEXT_LETTER = {name: ALPHABET[(at + 1) % 26] for at, name in enumerate(ALPHABET)}
 
 
@@ -111,6 +124,112 @@ class Marks(Promises):
         with ends_soon():
             self.assert_same(parting_size(40, 10000, 40, 9999), 10040)
             self.assert_same(parting_size(40, 10000, 40, 10000), None)
+
+
+def rows_of_forty():
+    """Rows of forty marks that can be finished, each with its tail and ring."""
+    return [
+        (support.marks_of_depths(tree, tail, ring), tail, ring)
+        for tail, ring in PAIRS for tree in [COMB, FOLD] + trees_of_forty()
+    ]
+
+
+class Joinings(Promises):
+
+    def test_forty_marks(self):
+        for row, tail, ring in rows_of_forty():
+            with ends_soon():
+                self.assert_same(can_finish(row, tail, ring), True)
+                places = safe_joinings(row, tail, ring)
+                self.assertTrue(set(places) <= set(joinings(row, tail, ring)))
+                self.assertEqual(len(joined(row, tail, ring, places[0])), 39)
+                self.assert_same(are_safe_at_once(row, tail, ring, places[:1]), True)
+                least, greatest = least_tree(row, tail, ring), greatest_tree(row, tail, ring)
+                self.assertTrue(least <= greatest)
+
+    def test_forty_marks_to_the_end(self):
+        for row, tail, ring in rows_of_forty()[::7]:
+            with ends_soon():
+                while len(row) > 1:
+                    row = joined(row, tail, ring, safe_joinings(row, tail, ring)[-1])
+            self.assertEqual(row, [0])
+
+    def test_very_long_lists(self):
+        with ends_soon():
+            self.assert_error(InvalidMarks, {"index": None}, can_finish, [0] * 10 ** 6, 0, 1)
+            places = [1] * 10 ** 6
+            self.assert_error(InvalidPlaces, {"index": 1}, are_safe_at_once, [0] * 40, 0, 1, places)
+
+
+class Shapes(Promises):
+
+    def test_the_longest_ways(self):
+        for tail, ring, many in ((0, 1, 741), (1, 1, 741), (0, 2, 361), (0, 3, 234), (2, 1, 703), (40, 1, 0)):
+            greatest = Shape(FOLD, tail, ring)
+            least = Shape(support.last_of_steps(FOLD, tail, ring, False), tail, ring)
+            with ends_soon():
+                self.assert_same((least - greatest, greatest - least), (many, many))
+                self.assert_same(len(least.way_to(greatest)), many)
+                shape = greatest
+                for leaf, up in greatest.way_to(least):
+                    shape = shape.after(leaf, up)
+                self.assertTrue(shape == least)
+
+    def test_forty_leaves(self):
+        for tail, ring in PAIRS:
+            greatest = Shape(FOLD, tail, ring)
+            least = Shape(support.last_of_steps(FOLD, tail, ring, False), tail, ring)
+            with ends_soon():
+                self.assertTrue(greatest & least == least and greatest | least == greatest)
+                self.assert_same((least.is_below(greatest), len(least), greatest.height()), (True, 40, 39))
+                self.assertEqual([up for _, up in greatest.steps() if up], [])
+                shape = Shape(FOLD, tail, ring)
+                shape &= least
+                self.assertTrue(shape == least)
+                shape |= greatest
+                self.assertTrue(shape == greatest)
+
+
+class Counts(Promises):
+
+    def test_forty_leaves(self):
+        for tail, ring in PAIRS:
+            with ends_soon():
+                self.assertTrue(1 <= count_classes(40, tail, ring) <= count_trees(40))
+                self.assertTrue(1 <= len(classes(9, tail, ring)) <= 1430)
+
+    def test_forty_marks(self):
+        for row, tail, ring in rows_of_forty():
+            with ends_soon():
+                many = count_alike(row, tail, ring)
+                self.assertTrue(1 <= many <= count_orders(row, tail, ring))
+                tree = numbered_tree(row, tail, ring, many // 2)
+                self.assert_same(tree_number(tree, tail, ring), many // 2)
+                self.assert_error(InvalidNumber, {"number": many}, numbered_tree, row, tail, ring, many)
+
+    def test_the_greatest_counts(self):
+        with ends_soon():
+            self.assert_same(count_alike([0] * 40, 0, 1), count_trees(40))
+            self.assert_same(count_orders([0] * 40, 0, 1), math.factorial(39))
+            self.assert_same(tree_number(FOLD, 0, 1), count_trees(40) - 1)
+            self.assert_same(count_alike([0] * 40, 0, 2), 0)
+
+
+class Pieces(Promises):
+
+    def test_forty_values(self):
+        for tail, ring in PAIRS:
+            for pieces in range(1, 41):
+                with ends_soon():
+                    sizes = even_cutting(40, pieces, tail, ring)
+                    self.assert_same(is_safe(sizes, tail, ring), True)
+                    self.assertEqual(len(cut_tree(sizes)), 40)
+                    self.assertTrue(1 <= count_cuttings(40, pieces, tail, ring) <= math.comb(39, pieces - 1))
+
+    def test_very_long_lists(self):
+        with ends_soon():
+            self.assert_error(InvalidSizes, {"index": 40}, cut_tree, [1] * 10 ** 6)
+            self.assert_error(InvalidSizes, {"index": 0}, is_safe, [MANY] * 10 ** 6, 0, 1)
 
 
 if __name__ == "__main__":

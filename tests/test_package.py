@@ -19,6 +19,14 @@ INTERFACE = {
     "trees": ["parts", "put_together", "height", "mirrored", "left_fold", "all_trees"],
     "operations": ["cycle_of_factor", "cycle_of_letters", "weights", "fold_numbers", "fold_texts", "fold_with"],
     "marks": ["mark", "marks_of", "fold_marks", "are_alike", "parting_leaf", "parting_size"],
+    "joinings": [
+        "can_finish", "joinings", "safe_joinings", "joined", "are_safe_at_once", "least_tree", "greatest_tree",
+    ],
+    "lattices": ["Shape"],
+    "counts": [
+        "count_trees", "count_alike", "count_orders", "count_classes", "classes", "tree_number", "numbered_tree",
+    ],
+    "pieces": ["cut_tree", "is_safe", "even_cutting", "count_cuttings"],
 }
 ARGUMENTS = {
     "parts": ["tree"],
@@ -39,7 +47,35 @@ ARGUMENTS = {
     "are_alike": ["tree", "other", "tail", "ring"],
     "parting_leaf": ["tree", "other", "tail", "ring"],
     "parting_size": ["tail", "ring", "other_tail", "other_ring"],
+    "can_finish": ["marks", "tail", "ring"],
+    "joinings": ["marks", "tail", "ring"],
+    "safe_joinings": ["marks", "tail", "ring"],
+    "joined": ["marks", "tail", "ring", "place"],
+    "are_safe_at_once": ["marks", "tail", "ring", "places"],
+    "least_tree": ["marks", "tail", "ring"],
+    "greatest_tree": ["marks", "tail", "ring"],
+    "Shape": ["tree", "tail", "ring"],
+    "count_trees": ["number"],
+    "count_alike": ["marks", "tail", "ring"],
+    "count_orders": ["marks", "tail", "ring"],
+    "count_classes": ["number", "tail", "ring"],
+    "classes": ["number", "tail", "ring"],
+    "tree_number": ["tree", "tail", "ring"],
+    "numbered_tree": ["marks", "tail", "ring", "number"],
+    "cut_tree": ["sizes"],
+    "is_safe": ["sizes", "tail", "ring"],
+    "even_cutting": ["number", "pieces", "tail", "ring"],
+    "count_cuttings": ["number", "pieces", "tail", "ring"],
 }
+# For each class what stands in its own body, with the arguments of the methods that are called by name.
+METHODS = {
+    "Shape": {
+        "height": [], "is_below": ["other"], "way_to": ["other"], "steps": [], "after": ["leaf", "up"],
+        "__len__": [], "__eq__": None, "__and__": None, "__or__": None, "__iand__": None, "__ior__": None,
+        "__sub__": None, "tree": None, "marks": None,
+    },
+}
+PROPERTIES = {"Shape": ["tree", "marks"]}
 
 
 class Files(unittest.TestCase):
@@ -66,15 +102,35 @@ class Files(unittest.TestCase):
                     self.assertEqual(getattr(module, thing).__module__, f"cutfolds.{name}")
 
     def test_names_of_arguments(self):
-        for name in ("trees", "operations", "marks"):
+        for name, listed in INTERFACE.items():
             module = importlib.import_module(f"cutfolds.{name}")
-            for thing in INTERFACE[name]:
-                with self.subTest(name, thing=thing):
-                    arguments = inspect.signature(getattr(module, thing)).parameters.values()
-                    self.assertEqual([argument.name for argument in arguments], ARGUMENTS[thing])
-                    for argument in arguments:
-                        self.assertIs(argument.kind, argument.POSITIONAL_OR_KEYWORD)
-                        self.assertIs(argument.default, argument.empty)
+            for thing in listed:
+                if name != "errors":
+                    with self.subTest(name, thing=thing):
+                        self.check_arguments(inspect.signature(getattr(module, thing)), ARGUMENTS[thing])
+
+    def check_arguments(self, signature, names):
+        arguments = signature.parameters.values()
+        self.assertEqual([argument.name for argument in arguments], names)
+        for argument in arguments:
+            self.assertIs(argument.kind, argument.POSITIONAL_OR_KEYWORD)
+            self.assertIs(argument.default, argument.empty)
+
+    def test_methods_stand_in_their_own_class(self):
+        for name, module in self.classes():
+            body = vars(getattr(module, name))
+            for method, arguments in METHODS[name].items():
+                with self.subTest(name, method=method):
+                    self.assertIn(method, body)
+                    self.assertIs(isinstance(body[method], property), method in PROPERTIES[name])
+                    if arguments is not None:
+                        self.check_arguments(inspect.signature(body[method]), ["self"] + arguments)
+
+    def classes(self):
+        return [
+            (thing, importlib.import_module(f"cutfolds.{name}"))
+            for name, listed in INTERFACE.items() for thing in listed if thing in METHODS
+        ]
 
 
 if __name__ == "__main__":
