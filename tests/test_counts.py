@@ -117,6 +117,22 @@ class Alike(Promises):
             self.assert_same(count_alike(row, tail, ring), 0)
 
 
+class NineLeaves(Promises):
+
+    def test_by_all_trees_and_all_orders(self):
+        for tail, ring in ((0, 1), (0, 2), (0, 3), (1, 2), (2, 1), (2, 2), (3, 2), (40, 1), (0, 10000)):
+            following, known = support.next_marks(tail, ring), {}
+            rows = support.trees_by_marks(9, tail, ring)
+            self.assertEqual(sum(map(len, rows.values())), 1430)
+            for key, trees in list(rows.items())[::5]:
+                row = list(key)
+                self.assert_same(count_alike(row, tail, ring), len(trees))
+                self.assert_same(count_orders(row, tail, ring), support.orders_by_trying(row, following, known))
+                for number, tree in list(enumerate(trees))[::17]:
+                    self.assert_same(tree_number(tree, tail, ring), number)
+                    self.assert_same(numbered_tree(row, tail, ring, number), tree)
+
+
 class Orders(Promises):
 
     def test_all_small_rows_by_all_orders(self):

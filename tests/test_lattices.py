@@ -155,6 +155,13 @@ class Making(Promises):
             self.assert_error(InvalidRing, {"ring": thing}, Shape, [1, 0], 0, thing)
             self.assert_error(InvalidTree, {"index": 0}, Shape, [1], 0, thing)
 
+    def test_wrong_calls_leave_the_tree_as_it_was(self):
+        tree, wrong = [2, 1, 0], [2, 1, 0, None]
+        for args in ((tree, -1, 2), (tree, 0, 0), (wrong, 0, 2)):
+            with self.assertRaises(ValueError):
+                Shape(*args)
+        self.assert_same((tree, wrong), ([2, 1, 0], [2, 1, 0, None]))
+
     def test_least_and_greatest_tails_and_rings(self):
         for tail, ring in ((0, 1), (40, 1), (0, 10000), (40, 10000)):
             self.assert_same(Shape(FOLD, tail, ring).marks, marks_of(FOLD, tail, ring))
