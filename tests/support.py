@@ -141,6 +141,14 @@ def row_behind(row, *places):
     return [mark for place, mark in enumerate(row, 1) if place not in places]
 
 
+def sets_of_places(places):
+    """All lists of places, ascending, of which no two are neighbours."""
+    found = [[]]
+    for place in places:
+        found += [chosen + [place] for chosen in found if not chosen or chosen[-1] + 2 <= place]
+    return found
+
+
 def orders_by_trying(row, following, known):
     """In how many orders joinings lead to the one mark 0; `known` keeps what was counted before."""
     key = tuple(row)
@@ -209,6 +217,29 @@ def last_of_steps(tree, tail, ring, up):
         for leaf in range(1, len(tree) + 1):
             found = tree_behind(found, tail, ring, leaf, up) or found
     return found
+
+
+# ---- values that show what was done to them
+
+
+def numbered(first, many):
+    """Values that tell their numbers, and how often they were turned."""
+    return [((number, 0),) for number in range(first, first + many)]
+
+
+def counting_turn(tail, ring):
+    """A turn of such values that has just this tail and this ring, and nothing else in common with others."""
+    following = next_marks(tail, ring)
+    return lambda row: tuple((number, following[turns]) for number, turns in row)
+
+
+def put_behind(one, two):
+    return one + two
+
+
+def told_result(tree, tail, ring, first=1):
+    """The result of a tree for such values, by the words of [7]."""
+    return tuple((first + at, mark) for at, mark in enumerate(marks_of_depths(tree, tail, ring)))
 
 
 # ---- wrong things

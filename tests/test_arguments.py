@@ -13,12 +13,19 @@ from cutfolds.joinings import (
 from cutfolds.marks import are_alike, fold_marks, mark, marks_of, parting_leaf, parting_size
 from cutfolds.operations import cycle_of_factor, cycle_of_letters, fold_numbers, fold_texts, fold_with, weights
 from cutfolds.pieces import count_cuttings, cut_tree, even_cutting, is_safe
+from cutfolds.rounds import fewest_rounds, flat_tree, least_height, most_values
+from cutfolds.signs import (
+    agree_in_signs, can_finish_signs, count_sign_rows, joined_signs, safe_sign_joinings, sign_joinings, signs_of,
+    tree_with_signs,
+)
+from cutfolds.text import format_tree, parse_tree
 from cutfolds.trees import all_trees, height, left_fold, mirrored, parts, put_together
 from tests import support
 from tests.support import Promises
 
 TREE = [2, 1, 2, 1, 0]
 ROW = [0, 1, 0, 1, 0]
+SIGNS = [1, 1, -1, -1, 1]
 LETTERS = {"a": "b", "b": "c", "c": "b"}
 
 
@@ -85,6 +92,28 @@ CALLS = [
     (even_cutting, {"number": 10, "pieces": 3, "tail": 0, "ring": 2}),
     (even_cutting, {"number": 1, "pieces": 1, "tail": 0, "ring": 2}),
     (count_cuttings, {"number": 10, "pieces": 3, "tail": 0, "ring": 2}),
+    (fewest_rounds, {"number": 41, "tail": 3, "ring": 2}),
+    (fewest_rounds, {"number": 1, "tail": 0, "ring": 1}),
+    (most_values, {"rounds": 7, "tail": 3, "ring": 2}),
+    (most_values, {"rounds": 0, "tail": 0, "ring": 1}),
+    (least_height, {"marks": ROW, "tail": 0, "ring": 2}),
+    (flat_tree, {"marks": ROW, "tail": 0, "ring": 2}),
+    (flat_tree, {"marks": [0], "tail": 40, "ring": 10000}),
+    (signs_of, {"tree": TREE}),
+    (signs_of, {"tree": [0]}),
+    (agree_in_signs, {"tree": TREE, "other": [4, 3, 2, 1, 0]}),
+    (count_sign_rows, {"number": 5}),
+    (can_finish_signs, {"signs": SIGNS}),
+    (can_finish_signs, {"signs": [-1]}),
+    (sign_joinings, {"signs": SIGNS}),
+    (safe_sign_joinings, {"signs": SIGNS}),
+    (joined_signs, {"signs": SIGNS, "place": 3}),
+    (tree_with_signs, {"signs": SIGNS}),
+    (tree_with_signs, {"signs": [1]}),
+    (format_tree, {"tree": TREE}),
+    (format_tree, {"tree": [0]}),
+    (parse_tree, {"text": "((..)((..).))"}),
+    (parse_tree, {"text": "."}),
 ]
 
 
@@ -164,7 +193,33 @@ WRONG_PIECES = [
     (thing, errors.InvalidNumber, {"number": thing})
     for thing in (0, -1, 11, 40, 10 ** 24, True, False, None, "1", 1.0, [1], object(), support.Unlike())
 ]
+WRONG_ROUNDS = [
+    (thing, errors.InvalidNumber, {"number": thing})
+    for thing in (-1, 61, 10 ** 24, True, False, None, "1", 1.0, [1], (1,), object(), support.Unlike())
+]
+WRONG_SIGNS = [
+    (thing, errors.InvalidSigns, {"index": index})
+    for thing, index in (
+        (None, None), ([], None), ((1,), None), (True, None), ("1", None), (1, None), ([1] * 41, None), ([True], 0),
+        ([0, None], 0), ([1, 2, False], 1), ([1, -1, 1.0], 2), ([1, -1, -1, [1], "1"], 3), ([-1, -2], 1),
+    )
+]
+WRONG_TEXTS = [
+    (thing, errors.InvalidText, {"place": place})
+    for thing, place in (
+        (None, None), (True, None), (1, None), (["."], None), (b".", None), (object(), None), ("", 0), ("x", 0),
+        (")", 0), ("(.", 2), ("..", 1), ("(...)", 3), ("(" * 41, 39), ("(. .)", 2),
+    )
+]
 WRONG_HERE = {
+    (fewest_rounds, "number"): [
+        (thing, errors.InvalidNumber, {"number": thing})
+        for thing in (0, -1, 10 ** 15 + 1, 10 ** 24, True, False, None, "1", 1.0, [1], object(), support.Unlike())
+    ],
+    (joined_signs, "place"): [
+        (thing, errors.NoJoining, {"place": thing})
+        for thing in (0, -1, 2, 4, 5, 6, 10 ** 24, True, False, None, "1", 1.0, [1], object(), support.Unlike())
+    ],
     (fold_numbers, "values"): wrong_values(
         [([1, 2, 3, True, "5"], 3), ([None, 2, 3, 4, 5], 0), ([1, 2, 3, 4, 5.0], 4)]
     ),
@@ -184,6 +239,7 @@ WRONG = {
     "factor": WRONG_FACTORS, "modulus": WRONG_MODULI, "letters": WRONG_LETTERS,
     "marks": WRONG_MARKS, "place": WRONG_PLACES, "places": WRONG_LISTS_OF_PLACES,
     "sizes": WRONG_SIZES, "pieces": WRONG_PIECES,
+    "rounds": WRONG_ROUNDS, "signs": WRONG_SIGNS, "text": WRONG_TEXTS,
     "turn": [], "join": [],
 }
 
@@ -348,6 +404,8 @@ class WrongCalls(Promises):
                             self.assert_error(errors.InvalidMarks, {"index": index}, function, **given)
 
     def test_unequal_leaves(self):
+        told = {"first": 2, "second": 3}
+        self.assert_error(errors.UnequalLeaves, told, agree_in_signs, [1, 0], [2, 1, 0])
         for function in (are_alike, parting_leaf):
             for thing, kind, fields in WRONG_TREES:
                 self.assert_error(kind, fields, function, [1, 0], thing, 0, 2)

@@ -8,14 +8,24 @@ import unittest
 from cutfolds.counts import (
     classes, count_alike, count_classes, count_orders, count_trees, numbered_tree, tree_number,
 )
-from cutfolds.errors import InvalidMarks, InvalidNumber, InvalidPlaces, InvalidSizes, InvalidTree, InvalidValues
+from cutfolds.errors import (
+    InvalidMarks, InvalidNumber, InvalidPlaces, InvalidSigns, InvalidSizes, InvalidText, InvalidTree, InvalidValues,
+    NothingToUndo, Stuck,
+)
 from cutfolds.joinings import (
     are_safe_at_once, can_finish, greatest_tree, joined, joinings, least_tree, safe_joinings,
 )
 from cutfolds.lattices import Shape
+from cutfolds.machines import Machine
 from cutfolds.marks import are_alike, fold_marks, mark, marks_of, parting_leaf, parting_size
 from cutfolds.operations import cycle_of_factor, cycle_of_letters, fold_numbers, fold_texts, fold_with, weights
 from cutfolds.pieces import count_cuttings, cut_tree, even_cutting, is_safe
+from cutfolds.rounds import fewest_rounds, flat_tree, least_height, most_values
+from cutfolds.signs import (
+    agree_in_signs, can_finish_signs, count_sign_rows, joined_signs, safe_sign_joinings, sign_joinings, signs_of,
+    tree_with_signs,
+)
+from cutfolds.text import format_tree, parse_tree
 from cutfolds.trees import all_trees, height, left_fold, mirrored, parts, put_together
 from tests import support
 from tests.support import Promises, depths_of, ends_soon
@@ -230,6 +240,152 @@ class Pieces(Promises):
         with ends_soon():
             self.assert_error(InvalidSizes, {"index": 40}, cut_tree, [1] * 10 ** 6)
             self.assert_error(InvalidSizes, {"index": 0}, is_safe, [MANY] * 10 ** 6, 0, 1)
+
+
+class Rounds(Promises):
+
+    def test_many_values(self):
+        for tail, ring in PAIRS:
+            with ends_soon():
+                rounds = fewest_rounds(10 ** 15, tail, ring)
+                self.assertTrue(50 <= rounds <= 10200)
+                self.assertTrue(61 <= most_values(60, tail, ring) <= 2 ** 60)
+                self.assert_error(InvalidNumber, {"number": MANY}, fewest_rounds, MANY, tail, ring)
+                self.assert_error(InvalidNumber, {"number": MANY}, most_values, MANY, tail, ring)
+
+    def test_forty_marks(self):
+        for row, tail, ring in rows_of_forty():
+            with ends_soon():
+                self.assertTrue(6 <= least_height(row, tail, ring) <= 39)
+            with ends_soon():
+                self.assertEqual(len(flat_tree(row, tail, ring)), 40)
+
+    def test_forty_marks_that_are_all_the_same(self):
+        with ends_soon():
+            self.assert_same(least_height([0] * 40, 0, 1), 6)
+            self.assert_same(height(flat_tree([1] * 39 + [0], 1, 1)), 6)
+            self.assert_error(Stuck, {}, least_height, [0] * 40, 0, 2)
+
+
+class Signs(Promises):
+
+    def test_forty_leaves(self):
+        for tree in trees_of_forty():
+            with ends_soon():
+                row = signs_of(tree)
+                self.assert_same((len(row), can_finish_signs(row), agree_in_signs(tree, tree)), (40, True, True))
+            with ends_soon():
+                places = safe_sign_joinings(row)
+                self.assertTrue(places and set(places) <= set(sign_joinings(row)))
+                self.assertEqual(len(joined_signs(row, places[-1])), 39)
+            with ends_soon():
+                self.assert_same(signs_of(tree_with_signs(row)), row)
+
+    def test_forty_signs(self):
+        for row in ([1] * 40, [1, -1] * 18 + [1] * 4, [-1, 1] * 19 + [-1, -1]):
+            with ends_soon():
+                self.assert_same(signs_of(tree_with_signs(row)), row)
+        with ends_soon():
+            self.assert_same(count_sign_rows(40), 2 ** 40 // 3)
+            self.assert_error(Stuck, {}, tree_with_signs, [1, -1] * 20)
+            self.assert_error(InvalidSigns, {"index": None}, tree_with_signs, [1] * 10 ** 6)
+
+
+class Texts(Promises):
+
+    def test_forty_leaves(self):
+        for tree in trees_of_forty():
+            with ends_soon():
+                text = format_tree(tree)
+                self.assert_same((len(text), parse_tree(text)), (118, tree))
+
+    def test_two_thousand_characters(self):
+        for text, place in (("(" * 2000, 39), ("." * 2000, 1), ("(." * 39 + "." + ")" * 1921, 118), ("x" * 2000, 0)):
+            with ends_soon():
+                self.assert_error(InvalidText, {"place": place}, parse_tree, text)
+
+
+class Machines(Promises):
+
+    def machine_of(self, values, tail, ring, marks=None):
+        """A machine whose results are the numbers of their first values, and how many there are."""
+        return Machine(lambda one: one, self.put, values, tail=tail, ring=ring, marks=marks)
+
+    def put(self, one, two):
+        self.assertEqual(one[0] + one[1], two[0])
+        return one[0], one[1] + two[1]
+
+    def values(self, first, many):
+        return [(number, 1) for number in range(first, first + many)]
+
+    def test_forty_parts(self):
+        for row, tail, ring in rows_of_forty():
+            machine = self.machine_of(self.values(1, 40), tail, ring, row)
+            with ends_soon():
+                self.assert_same(machine.safe_places(), safe_joinings(row, tail, ring))
+            with ends_soon():
+                self.assert_same(machine.finish(), (1, 40))
+            with ends_soon():
+                for _ in range(39):
+                    machine.undo()
+                self.assert_same(machine.marks, row)
+            with ends_soon():
+                self.assertEqual(len(list(machine.run())), 39)
+
+    def test_values_in_portions(self):
+        for tail, ring in itertools.product((0, 1, 2, 40), (1, 2, 3, 10000)):
+            machine, many = self.machine_of(self.values(1, 40), tail, ring), 40
+            # Not more than 2,000 values, nor than 2,000 joinings and additions.
+            while many < 1950:
+                with ends_soon():
+                    while len(machine) > 21 and ring < 10000:
+                        machine.join(machine.safe_places()[-1])
+                    self.assert_same(machine.finish(), (1, many))
+                more = self.values(many + 1, 39)
+                with ends_soon():
+                    machine += more
+                many += 39
+            with ends_soon():
+                self.assert_same((machine.spans[0], machine.spans[-1]), ((1, many - 39), (many, many)))
+                self.assertEqual(len(machine.results), 40)
+            with ends_soon():
+                both = machine_behind(machine, tail, ring)
+                self.assert_same(both.spans[-1], (many + 1, many + 1))
+            with ends_soon():
+                self.assert_same(machine.finish(), (1, many))
+
+    def test_two_thousand_deeds(self):
+        for tail, ring in ((0, 1), (0, 2), (40, 1), (0, 10000)):
+            machine = self.machine_of(self.values(1, 40), tail, ring)
+            with ends_soon():
+                for _ in range(500):
+                    machine.join(machine.safe_places()[-1])
+                    machine.undo()
+                for _ in range(500):
+                    machine += []
+            with ends_soon():
+                for _ in range(500):
+                    machine.undo()
+                self.assert_error(NothingToUndo, {}, machine.undo)
+                self.assert_same(machine.results, self.values(1, 40))
+
+    def test_very_long_lists(self):
+        long, machine = [None] * 10 ** 6, self.machine_of([None], 0, 1)
+        with ends_soon():
+            self.assert_error(InvalidValues, {"index": None}, self.machine_of, long, 0, 1)
+            self.assert_error(InvalidMarks, {"index": None}, self.machine_of, [None], 0, 1, long)
+            with self.assertRaises(InvalidValues):
+                machine += long
+
+
+def machine_behind(machine, tail, ring):
+    """A machine of the parts of a whole one and of a value more."""
+    machine.finish()
+    single = Machine(lambda one: one, lambda one, two: two, [None], tail=tail, ring=ring)
+    both = machine.followed_by(single)
+    for _ in range(39):
+        machine.undo()
+    return both
 
 
 if __name__ == "__main__":

@@ -36,6 +36,17 @@ ALL_FIELDS = sorted({name for names in ALL_ERRORS.values() for name in names})
 
 class Bases(unittest.TestCase):
 
+    def test_there_are_just_twenty_one(self):
+        found = [name for name, thing in vars(errors).items() if isinstance(thing, type)]
+        self.assertEqual(sorted(found), sorted(ALL_ERRORS))
+        self.assertEqual(len(found), 21)
+
+    def test_their_bases_are_just_those_listed(self):
+        for name in ALL_ERRORS:
+            with self.subTest(name):
+                told = ValueError if name in VALUE_ERRORS else LookupError
+                self.assertEqual(getattr(errors, name).__bases__, (told,))
+
     def test_value_errors(self):
         for name in VALUE_ERRORS:
             with self.subTest(name):

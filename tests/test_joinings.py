@@ -48,14 +48,6 @@ def large_rows():
             yield row, other, tree, tail, ring
 
 
-def sets_of_places(places):
-    """All lists of places, ascending, of which no two are neighbours."""
-    found = [[]]
-    for place in places:
-        found += [chosen + [place] for chosen in found if not chosen or chosen[-1] + 2 <= place]
-    return found
-
-
 class Examples(Promises):
 
     def test_of_the_interface(self):
@@ -249,7 +241,7 @@ class AtOnce(Promises):
     def test_all_places_of_small_rows_by_all_orders(self):
         for row, tail, ring, following, known in small_rows():
             if len(row) <= 6:
-                for places in sets_of_places(support.places_by_rule(row, following)):
+                for places in support.sets_of_places(support.places_by_rule(row, following)):
                     behind = row_behind(row, *places)
                     told = support.orders_by_trying(behind, following, known) > 0
                     self.assert_same(are_safe_at_once(row, tail, ring, places), told)
@@ -269,7 +261,7 @@ class AtOnce(Promises):
     def test_safe_ones_are_always_so_with_a_ring_of_one_or_two(self):
         for row, tail, ring, following, _ in small_rows():
             if ring <= 2 and len(row) > 1 and can_finish(row, tail, ring):
-                for places in sets_of_places(safe_joinings(row, tail, ring)):
+                for places in support.sets_of_places(safe_joinings(row, tail, ring)):
                     self.assert_same(are_safe_at_once(row, tail, ring, places), True)
 
     def test_no_places(self):

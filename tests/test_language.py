@@ -98,6 +98,13 @@ class Language(unittest.TestCase):
             with self.subTest(where):
                 self.assertFalse(hasattr(builtins, node.arg))
 
+    def test_what_has_items_says_whether_it_is_iterated_over(self):
+        for where, node in nodes(ast.ClassDef):
+            with self.subTest(where):
+                names = [row.name for row in node.body if isinstance(row, ast.FunctionDef)]
+                self.assertTrue("__getitem__" not in names or "__iter__" in names)
+                self.assertNotIn("keys", names)
+
     def test_methods(self):
         own = [node.name for _, node in nodes(ast.FunctionDef)]
         # A function may be held by an attribute, and is called there.

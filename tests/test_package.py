@@ -27,6 +27,13 @@ INTERFACE = {
         "count_trees", "count_alike", "count_orders", "count_classes", "classes", "tree_number", "numbered_tree",
     ],
     "pieces": ["cut_tree", "is_safe", "even_cutting", "count_cuttings"],
+    "rounds": ["fewest_rounds", "most_values", "least_height", "flat_tree"],
+    "signs": [
+        "signs_of", "agree_in_signs", "count_sign_rows", "can_finish_signs", "sign_joinings", "safe_sign_joinings",
+        "joined_signs", "tree_with_signs",
+    ],
+    "machines": ["Machine"],
+    "text": ["format_tree", "parse_tree"],
 }
 ARGUMENTS = {
     "parts": ["tree"],
@@ -66,6 +73,21 @@ ARGUMENTS = {
     "is_safe": ["sizes", "tail", "ring"],
     "even_cutting": ["number", "pieces", "tail", "ring"],
     "count_cuttings": ["number", "pieces", "tail", "ring"],
+    "fewest_rounds": ["number", "tail", "ring"],
+    "most_values": ["rounds", "tail", "ring"],
+    "least_height": ["marks", "tail", "ring"],
+    "flat_tree": ["marks", "tail", "ring"],
+    "signs_of": ["tree"],
+    "agree_in_signs": ["tree", "other"],
+    "count_sign_rows": ["number"],
+    "can_finish_signs": ["signs"],
+    "sign_joinings": ["signs"],
+    "safe_sign_joinings": ["signs"],
+    "joined_signs": ["signs", "place"],
+    "tree_with_signs": ["signs"],
+    "Machine": ["turn", "join", "values", "*tail", "*ring", "*marks=None"],
+    "format_tree": ["tree"],
+    "parse_tree": ["text"],
 }
 # For each class what stands in its own body, with the arguments of the methods that are called by name.
 METHODS = {
@@ -74,8 +96,13 @@ METHODS = {
         "__len__": [], "__eq__": None, "__and__": None, "__or__": None, "__iand__": None, "__ior__": None,
         "__sub__": None, "tree": None, "marks": None,
     },
+    "Machine": {
+        "safe_places": [], "join": ["place"], "run": [], "finish": [], "followed_by": ["other"], "undo": [],
+        "__len__": [], "__getitem__": None, "__iadd__": None, "results": None, "marks": None, "spans": None,
+        "result": None,
+    },
 }
-PROPERTIES = {"Shape": ["tree", "marks"]}
+PROPERTIES = {"Shape": ["tree", "marks"], "Machine": ["results", "marks", "spans", "result"]}
 
 
 class Files(unittest.TestCase):
@@ -111,10 +138,14 @@ class Files(unittest.TestCase):
 
     def check_arguments(self, signature, names):
         arguments = signature.parameters.values()
-        self.assertEqual([argument.name for argument in arguments], names)
-        for argument in arguments:
-            self.assertIs(argument.kind, argument.POSITIONAL_OR_KEYWORD)
-            self.assertIs(argument.default, argument.empty)
+        self.assertEqual([self.told(argument) for argument in arguments], names)
+
+    def told(self, argument):
+        """The name of an argument, with a star if it stands behind one, and with its default value."""
+        self.assertIn(argument.kind, (argument.POSITIONAL_OR_KEYWORD, argument.KEYWORD_ONLY))
+        star = "*" if argument.kind == argument.KEYWORD_ONLY else ""
+        default = "" if argument.default is argument.empty else f"={argument.default!r}"
+        return star + argument.name + default
 
     def test_methods_stand_in_their_own_class(self):
         for name, module in self.classes():
